@@ -1,7 +1,9 @@
 """What the tests share: calls by name, answers taken apart, and a second way to the same numbers.
 
 The second way goes by loops: flows that circulate are sums of loops, and along each loop what heads give is
-what resistance takes. The program goes by junctions and pressures, so the two have little in common.
+what resistance takes. The program goes by junctions and pressures, so the two have little in common. Falls of
+pressure are found by trying all ways that pass no junction twice; warmths aren't found, but it's seen from what
+hangs together whether they are settled, and checked whether told ones keep the rules.
 """
 
 import random
@@ -42,6 +44,9 @@ PRINT = [2]
 FLOWS = [5]
 PRESSURES = [6]
 WORK = [7]
+WARMTH = [16]
+HEAT = [17]
+GROUPS = [18]
 
 
 def opens(edge, n, d):
@@ -62,6 +67,41 @@ def energy(flows):
 
 def across(i, j):
     return [10, i, j]
+
+
+def least(flows):
+    return [11] + row(flows)
+
+
+def throttle(flows):
+    return [12] + row(flows)
+
+
+def loss(number, n, d, room):
+    return [13, number, n, d, room]
+
+
+def boiler(junction, warmth):
+    return [14, junction, warmth]
+
+
+def unboil(junction):
+    return [15, junction]
+
+
+def edge(number):
+    return [19, number]
+
+
+def more(number, n, d):
+    return [20, number, n, d]
+
+
+def everything(words):
+    """Calls whose answers tell all that a network of this text is."""
+    model = Model(words)
+    edges = [edge(number) for number in range(len(model.edges))]
+    return [PRINT, FLOWS, PRESSURES, WARMTH, HEAT, GROUPS] + edges
 
 
 def each(*calls):
@@ -101,6 +141,7 @@ class Model:
     def __init__(self, words=""):
         self.names = []
         self.edges = []
+        self.boilers = {}
         self.wrong = 0
         lines = words.split("\n")
         for number, line in enumerate(lines[:-1], start=1):
@@ -123,7 +164,7 @@ class Model:
         self.edges.append({
             "kind": parts[0], "ends": (self.names.index(parts[1]), self.names.index(parts[2])),
             "conductance": ratio(parts[3]), "head": ratio(parts[4]) if len(parts) == 5 else Fraction(0),
-            "opening": Fraction(1)})
+            "opening": Fraction(1), "loss": Fraction(0), "room": 0})
         return len(self.names) <= 8 and len(self.edges) <= 14
 
     def tree(self):
@@ -205,6 +246,119 @@ class Model:
         heads[i] += 1
         return self.flows(heads)[j] - self.flows()[j]
 
+    def pump(self):
+        """The only pump's number, or None."""
+        pumps = [number for number, edge in enumerate(self.edges) if edge["kind"] == "pump"]
+        return pumps[0] if len(pumps) == 1 else None
+
+    def steps(self, flows):
+        """From where to where pressure must fall, and by how much, as far as pipes and valves ask for it."""
+        found = []
+        for edge, flow in zip(self.edges, flows):
+            first, second = edge["ends"]
+            drop = flow / edge["conductance"]
+            if edge["kind"] == "pipe":
+                found += [(first, second, drop), (second, first, -drop)]
+            if edge["kind"] == "valve" and flow != 0:
+                found.append((first, second, drop) if flow > 0 else (second, first, -drop))
+        return found
+
+    def setting(self, flows):
+        """The least head and the openings by which flows that circulate are had, or None."""
+        steps = self.steps(flows)
+        pump = self.edges[self.pump()]
+        if flows[self.pump()] <= 0 or any(goes_round_up(steps, root) for root in range(len(self.names))):
+            return None
+        falls = longest_ways(steps, pump["ends"][1])
+        openings = []
+        for edge, flow in zip(self.edges, flows):
+            fall = falls.get(edge["ends"][1], 0) - falls.get(edge["ends"][0], 0)
+            if edge["kind"] == "valve":
+                openings.append(flow / (edge["conductance"] * fall) if flow else Fraction(0))
+            else:
+                openings.append(Fraction(1))
+        return flows[self.pump()] / pump["conductance"] + falls.get(pump["ends"][0], 0), openings
+
+    def streams(self, flows):
+        """Each edge through which something flows: the edge, from where, to where, how much."""
+        found = []
+        for edge, flow in zip(self.edges, flows):
+            if flow != 0:
+                start, end = edge["ends"] if flow > 0 else edge["ends"][::-1]
+                found.append((edge, start, end, abs(flow)))
+        return found
+
+    def warmth_is_settled(self):
+        """Whether all water that goes round comes by a boiler or by an edge with a loss."""
+        streams = self.streams(self.flows())
+        for root in range(len(self.names)):
+            met = {root}
+            for times in self.names:
+                met |= {end for edge, start, end, amount in streams if start in met}
+            own = [edge for edge, start, end, amount in streams if start in met]
+            if own and not met & set(self.boilers) and all(edge["loss"] == 0 for edge in own):
+                return False
+        return True
+
+    def arriving(self, warmths):
+        """For each junction how much flows into it by each edge, and how warm."""
+        found = [[] for name in self.names]
+        for edge, start, end, amount in self.streams(self.flows()):
+            found[end].append((amount, warmths[start] - edge["loss"] * (warmths[start] - edge["room"])))
+        return found
+
+    def keeps_warmth(self, warmths):
+        for junction, inflow in enumerate(self.arriving(warmths)):
+            warmth = warmths[junction]
+            if junction in self.boilers:
+                kept = warmth == self.boilers[junction]
+            elif inflow:
+                kept = warmth == sum(a * w for a, w in inflow) / sum(a for a, w in inflow)
+            else:
+                kept = warmth == 0
+            if not kept:
+                return False
+        return len(warmths) == len(self.names)
+
+    def heat(self, warmths):
+        flows = self.flows()
+        given = []
+        for edge, flow in zip(self.edges, flows):
+            start = edge["ends"][0] if flow > 0 else edge["ends"][1]
+            given.append(abs(flow) * edge["loss"] * (warmths[start] - edge["room"]))
+        brought = []
+        for junction, inflow in enumerate(self.arriving(warmths)):
+            warmer = [a * (warmths[junction] - w) for a, w in inflow] if junction in self.boilers else []
+            brought.append(sum(warmer, Fraction(0)))
+        return given, brought
+
+
+def ways_from(steps, start):
+    """All ways from the start that pass no junction twice, but may end where they began: the end, the sum."""
+    found = []
+    begun = [(start, Fraction(0), (start,))]
+    while begun:
+        place, total, passed = begun.pop()
+        for upper, lower, drop in steps:
+            if upper == place and lower == start:
+                found.append((start, total + drop))
+            elif upper == place and lower not in passed:
+                found.append((lower, total + drop))
+                begun.append((lower, total + drop, passed + (lower,)))
+    return found
+
+
+def goes_round_up(steps, root):
+    """Whether a way round from the root asks that pressure be lower there than it is."""
+    return any(end == root and total > 0 for end, total in ways_from(steps, root))
+
+
+def longest_ways(steps, start):
+    longest = {start: Fraction(0)}
+    for end, total in ways_from(steps, start):
+        longest[end] = max(longest.get(end, total), total)
+    return longest
+
 
 def ratio(word):
     found = RATIO.fullmatch(word)
@@ -263,6 +417,53 @@ def some_network(source):
 def some_networks(how_many, seed):
     source = random.Random(seed)
     return [some_network(source) + (source,) for number in range(how_many)]
+
+
+def some_driven_network(source):
+    """Like some_network, but with one pump, which drives something, and with few ways, so that all can be tried.
+
+    Its flows are numbers that can be handed in.
+    """
+    while True:
+        names = source.sample("abcdefgh", source.randint(2, 6))
+        lines = [f"pump {names[0]} {names[1]} {some_ratio(source, 1)} {some_ratio(source, 1)}\n"]
+        for number in range(source.randint(1, 8)):
+            kind = source.choice(("pipe", "valve", "valve", "valve"))
+            ends = source.sample(names, 2)
+            lines.append(f"{kind} {ends[0]} {ends[1]} {some_ratio(source, 1)}\n")
+        source.shuffle(lines)
+        words = "".join(lines)
+        model = Model(words)
+        calls = [net(words)]
+        for number, edge in enumerate(model.edges):
+            if edge["kind"] == "valve":
+                below = source.choice((1, 2, 5, 1000000))
+                top = source.randint(0, below)
+                calls.append(opens(number, top, below))
+                edge["opening"] = Fraction(top, below)
+        flows = model.flows()
+        if flows[model.pump()] > 0 and all(abs(number) <= 10**18 for number in ratios(flows)):
+            return calls, model
+
+
+def some_warmth(source, model):
+    """Calls that make losses and boilers, which the model then has, too."""
+    calls = []
+    often = source.choice((0.1, 0.5, 1))
+    for number, edge in enumerate(model.edges):
+        if source.random() < often:
+            below = source.choice((1, 1, 2, 5, 1000000))
+            top = source.randint(0, below)
+            room = source.choice((-1000000, -7, 0, 20, 21, 1000000))
+            calls.append(loss(number, top, below, room))
+            edge["loss"] = Fraction(top, below)
+            edge["room"] = room
+    often = source.choice((0, 0.3))
+    for junction in range(len(model.names)):
+        if source.random() < often:
+            model.boilers[junction] = source.choice((-1000000, -3, 0, 60, 80, 1000000))
+            calls.append(boiler(junction, model.boilers[junction]))
+    return calls
 
 
 def some_circulation(model, source):

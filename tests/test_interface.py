@@ -6,9 +6,11 @@ import sys
 import time
 import unittest
 from contextlib import redirect_stderr, redirect_stdout
+from fractions import Fraction
 from unittest import mock
 
-from helper import FLOWS, PRESSURES, PRINT, WORK, across, check, each, energy, head, net, opens, read
+from helper import FLOWS, GROUPS, HEAT, PRESSURES, PRINT, WARMTH, WORK, across, boiler, check, each, edge, energy
+from helper import fractions_of, head, least, loss, more, net, opens, ratios, read, throttle, unboil
 from waterloops.network import answers
 
 LOOPS = "pump a b 2 3\npipe b c 1/2\nvalve c a 4/6\nvalve b c 3\n"
@@ -17,7 +19,13 @@ LOOP_PRESSURES = [0, 1, 75, 32, 63, 32]
 ALL_CALLS = (net(LOOPS) + read(LOOPS) + read("x") + PRINT + opens(3, 1, 2) + head(0, 5, 7) + FLOWS + PRESSURES + WORK
              + check(LOOP_FLOWS, LOOP_PRESSURES) + energy([0, 1] * 4) + across(1, 2) + net("x") + opens(9, 1, 2)
              + opens(0, 1, 2) + head(1, 1, 1) + head(0, 1, 0) + check([1], []) + energy([1]) + energy([1, 1])
-             + opens(3, 0, 1) + energy([0, 1, 1, 1, 0, 1, -1, 1]) + across(0, 4) + FLOWS)
+             + opens(3, 0, 1) + energy([0, 1, 1, 1, 0, 1, -1, 1]) + across(0, 4) + FLOWS
+             + least(LOOP_FLOWS) + throttle(LOOP_FLOWS) + FLOWS + PRINT + loss(1, 1, 3, -20) + loss(3, 1, 1, 15)
+             + WARMTH + boiler(1, 80) + boiler(2, 60) + WARMTH + HEAT + unboil(2) + HEAT + GROUPS + edge(0) + edge(3)
+             + more(2, 1, 5) + least([1]) + least([1, 1]) + throttle([1]) + throttle([0, 1] * 4) + loss(4, 1, 1, 0)
+             + boiler(3, 0) + unboil(2) + unboil(3) + edge(4) + more(0, 1, 1) + more(2, 2, 1) + unboil(1)
+             + loss(1, 0, 1, 0) + loss(3, 0, 1, 0) + WARMTH + HEAT + throttle([1, 1, 1, 1, 1, 1, 0, 1]) + GROUPS
+             + boiler(0, 7) + HEAT)
 
 
 def refuses(*given):
@@ -52,9 +60,23 @@ class Lists(unittest.TestCase):
         self.assertEqual(answers([0, 12] + words + [9, 2, 0, 1]), [3, 0, 2, 1, 5, 0, 0, 1, 0, 1])
         self.assertEqual(answers([0, 12] + words + [10, 0, 0]), [3, 0, 2, 1, 3, 0, 0, 1])
 
+    def test_calls_11_to_20_as_the_interface_writes_them(self):
+        words = list(b"pump a b 1 1\nvalve b a 1\n")
+        made = [0, len(words)] + words
+        told = [4, 3, 1, 3, 1]
+        for call, answer in (([11] + told, [7, 0, 6, 1, 1, 1, 1, 1]), ([12] + told, [3, 0, 6, 1]), ([11, 0], [1, -4]),
+                             ([12, 1, 5], [1, -1]), ([13, 1, 1, 2, 20], [1, 0]), ([14, 1, 50], [1, 0]),
+                             ([14, 1, 50, 15, 1], [1, 0, 1, 0]), ([15, 1], [1, -4]), ([16], [1, -6]), ([17], [1, -6]),
+                             ([18], [3, 0, 0, 0]), ([20, 1, 0, 1], [5, 0, 1, 2, 0, 1]),
+                             ([19, 1], [14, 0, 1, 1, 0, 1, 1, 0, 1, 1, 1, 0, 1, 0, 1]),
+                             ([14, 0, 5, 16, 17], [1, 0, 5, 0, 5, 1, 5, 1, 9, 0, 0, 1, 0, 1, 0, 1, 0, 1])):
+            self.assertEqual(answers(made + call + [18]), [3, 0, 2, 2] + answer + [3, 0, 0, 0], call)
+
     def test_refused_calls_are_gone_through_to_their_ends(self):
         calls = energy([1, 1, 1]) + check([1], [1, 2, 3]) + opens(5, 5, 5) + across(5, 5) + PRINT
         self.assertEqual(answers(calls), [1, -1] * 4 + [1, 0])
+        calls = least([1, 1, 1]) + throttle([1] * 39) + loss(2, 2, 2, 2) + boiler(2, 2) + unboil(2) + edge(2)
+        self.assertEqual(answers(calls + more(2, 2, 2) + GROUPS), [1, -1] * 7 + [1, 0])
 
     def test_answers_are_whole_numbers_in_a_list(self):
         found = answers(ALL_CALLS)
@@ -84,6 +106,10 @@ class NothingElse(unittest.TestCase):
         answers(net(LOOPS) + opens(3, 0, 1))
         self.assertEqual(each(PRINT, FLOWS, PRESSURES, across(0, 0)), [[0], [0], [0], [-1]])
         self.assertEqual(each(net(LOOPS), FLOWS)[1], [0] + LOOP_FLOWS)
+        answers(net(LOOPS) + loss(1, 1, 2, 20) + boiler(1, 60) + throttle([1, 1, 1, 1, 1, 1, 0, 1]))
+        self.assertEqual(each(WARMTH, HEAT, GROUPS, edge(0), unboil(0)), [[0], [0], [0], [-1], [-1]])
+        self.assertEqual(each(net(LOOPS), unboil(1), WARMTH, FLOWS, GROUPS)[1:],
+                         [[-4], [-6], [0] + LOOP_FLOWS, [0, 0, 0, 0]])
 
     def test_it_prints_reads_and_imports_nothing(self):
         out = io.StringIO()
@@ -136,6 +162,31 @@ class Greatest(unittest.TestCase):
             if call == WORK:
                 self.assertEqual(answer[1:3], answer[3:5])
                 self.assertTrue(answer[1] > 10**18)
+
+    def test_a_hundred_calls_with_twenty_times_throttle(self):
+        """A row of valves, and one from each of its junctions to its end; flows with long numbers."""
+        ways = [("abcdefg"[k], "bcdefgh"[k]) for k in range(7)] + [("bcdefg"[k], "h") for k in range(6)]
+        lines = ["pump h a 999961/999959 1\n"]
+        for k, (first, second) in enumerate(ways):
+            lines.append(f"valve {first} {second} {999983 - 6 * k}/{999979 - 10 * k}\n")
+        calls = [net("".join(lines)), boiler(0, 1000000)]
+        calls += [loss(number, 900001 + number, 999999 - number, 999983 - number) for number in range(14)]
+        told = []
+        for number in range(20):
+            row = [Fraction(8 * 10**8 - 7 * k - number, 9 * 10**8 + 10**7 * k + 3 * number) for k in range(7)]
+            told.append([row[0]] + row + [row[k] - row[k + 1] for k in range(6)])
+            calls += [throttle(ratios(told[-1])), FLOWS, opens(3, 1, 999983 - number), HEAT]
+        calls += [HEAT] * (100 - len(calls))
+        self.assertTrue(all(abs(number) <= 10**18 for call in calls for number in call))
+        start = time.perf_counter()
+        found = each(*calls)
+        self.assertTrue(time.perf_counter() - start < 5)
+        self.assertEqual(len(found), 100)
+        for flows, answer in zip(told, [found[k] for k in range(100) if calls[k] == FLOWS]):
+            self.assertEqual(fractions_of(answer), flows)
+        for heats in [fractions_of(found[k]) for k in range(100) if calls[k] == HEAT]:
+            self.assertEqual(sum(heats[:14]), sum(heats[14:]))
+            self.assertTrue(sum(heats[14:]) != 0)
 
 
 if __name__ == "__main__":

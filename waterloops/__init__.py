@@ -1,1 +1,1 @@
-"""Water in loops: the flows, pressures and energies of networks of pipes, valves and pumps."""
+"""Water in loops: flows, pressures, energies, throttling and warmth of networks of pipes, valves and pumps."""

@@ -3,8 +3,8 @@
 from waterloops.calls import answer_call
 from waterloops.parts import Network
 
-HOW_MANY_NUMBERS = {3: 3, 4: 3, 10: 2}
-HOW_MANY_ROWS = {0: 1, 1: 1, 8: 2, 9: 1}
+HOW_MANY_NUMBERS = {3: 3, 4: 3, 10: 2, 13: 4, 14: 2, 15: 1, 19: 1, 20: 3}
+HOW_MANY_ROWS = {0: 1, 1: 1, 8: 2, 9: 1, 11: 1, 12: 1}
 
 
 def rows_from(calls, place, how_many):

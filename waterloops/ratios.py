@@ -47,6 +47,14 @@ def row_of(ratios):
     return Row([ratio[0] * (below // ratio[1]) for ratio in ratios], below)
 
 
+def row_over_product(ratios):
+    """The row whose number below is the product of all theirs."""
+    below = 1
+    for ratio in ratios:
+        below = below * ratio[1]
+    return Row([ratio[0] * (below // ratio[1]) for ratio in ratios], below)
+
+
 def shortened(tops, below):
     """The row of tops over below, less the factors that all of them share."""
     factor = below

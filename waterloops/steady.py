@@ -1,6 +1,7 @@
 """The flows of a network and their pressures; what any flows take."""
 
-from waterloops.ratios import Row, lowest, plus, row_of, shortened, squares, sum_of_products, times, turned
+from waterloops.ratios import Row, lowest, plus, row_of, row_over_product, shortened, squares, sum_of_products
+from waterloops.ratios import times, turned
 from waterloops.solving import solved
 
 
@@ -42,36 +43,42 @@ def balances(network, through, heads):
     return rows
 
 
-def hold_at_zero(rows, junction):
-    """The junction's pressure is 0; its balance follows from those of the rest of its group.
+def chosen_from(row, places):
+    return [row[place] for place in places] + [row[-1]]
 
-    With one junction of each group held so, all determinants at the upper left are above 0, as solving asks.
+
+def pressures_not_shortened(network, heads):
+    """The pressures if the edges' heads were these, less their number below.
+
+    The least junction of each group is held at 0: its balance follows from those of the rest. What is left has
+    determinants above 0, in which no edge stands twice: so the product of the numbers below makes them whole.
     """
-    rows[junction] = [0] * (len(rows) + 1)
-    rows[junction][junction] = 1
+    through = row_over_product([lets_through(edge) for edge in network.edges])
+    rows = balances(network, through, heads)
+    free = [junction for junction, least in enumerate(least_of_groups(network)) if junction != least]
+    found = solved([chosen_from(rows[junction], free) for junction in free], through.below)
+    tops = [0] * len(network.names)
+    for junction, top in zip(free, found.tops):
+        tops[junction] = top
+    return Row(tops, found.below)
 
 
 def pressures_by(network, heads):
     """The pressures if the edges' heads were these."""
-    through = row_of([lets_through(edge) for edge in network.edges])
-    rows = balances(network, through, heads)
-    for junction, least in enumerate(least_of_groups(network)):
-        if junction == least:
-            hold_at_zero(rows, junction)
-    pressures = solved(rows)
+    pressures = pressures_not_shortened(network, heads)
     return shortened(pressures.tops, pressures.below * heads.below)
 
 
 def flows_by(network, heads):
     """The flows if the edges' heads were these."""
-    through = row_of([lets_through(edge) for edge in network.edges])
-    pressures = pressures_by(network, heads)
+    pressures = pressures_not_shortened(network, heads)
     tops = []
-    for number, edge in enumerate(network.edges):
-        fall = pressures.tops[edge.first] - pressures.tops[edge.second]
-        press = fall * heads.below + heads.tops[number] * pressures.below
-        tops.append(through.tops[number] * press)
-    return shortened(tops, through.below * pressures.below * heads.below)
+    for head, edge in zip(heads.tops, network.edges):
+        through = lets_through(edge)
+        press = pressures.tops[edge.first] - pressures.tops[edge.second] + head * pressures.below
+        # Without rest: flows, too, come over the same determinant (Cramer) if each edge's equation is made whole.
+        tops.append(through[0] * press // through[1])
+    return shortened(tops, pressures.below * heads.below)
 
 
 def heads_of(network):
